@@ -4,34 +4,8 @@ import inspect
 import itertools
 import unittest
 
+from samples import ALPHABET, BEYOND, ORDINARY, SMALL, slow_parts, slow_where, words_up_to
 from tailyard.parts import count_parts, longest_shared, longest_twice, missing, parts, where
-
-ALPHABET = "abcdefghijklmnopqrstuvwxyz"
-ORDINARY = ("banana", "mississippi", "abracadabra", "abcabcabcabcabcabcabcabc", "abaababaabaababaababaaba",
-            "zyxwvutsrqponmlkjihgfedc", "thequickbrownfoxjumpsove")
-# A text may lie somewhat beyond 24 letters, and is not refused for it.
-BEYOND = ("a" * 25, ALPHABET, "ab" * 15)
-
-
-def words_up_to(letters, longest):
-    words = []
-    for length in range(longest + 1):
-        words.extend("".join(word) for word in itertools.product(letters, repeat=length))
-    return words
-
-
-SMALL = words_up_to("ab", 7) + words_up_to("abc", 4)
-
-
-def slow_parts(text):
-    """By the words of 0.4: what stands between two places, in their order."""
-    found = {text[start:end] for start in range(len(text) + 1) for end in range(start, len(text) + 1)}
-    return tuple(sorted(found, key=lambda part: (len(part), part)))
-
-
-def slow_where(text, part):
-    ends = range(len(text) + 1)
-    return tuple(start for start in ends if any(start <= end and text[start:end] == part for end in ends))
 
 
 def slow_first_longest(candidates):

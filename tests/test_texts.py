@@ -4,16 +4,10 @@ import copy
 import inspect
 import unittest
 
+from samples import ALPHABET, nested
 from tailyard.texts import is_text
 
-ALPHABET = "abcdefghijklmnopqrstuvwxyz"
 SIGNS = [chr(number) for number in range(ord(" "), ord("~") + 1)] + ["\t", "\n"]
-
-
-def nested(thing, depth, kind):
-    for _ in range(depth):
-        thing = kind([thing])
-    return thing
 
 
 class IsText(unittest.TestCase):
